@@ -1,0 +1,1 @@
+"""Shelfdoors: chains of first-in-first-out caches with several entries."""
