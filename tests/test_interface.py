@@ -13,6 +13,11 @@ FUNCTIONS = {
         "is_normal": "(chain)", "normal_chain": "(chain)", "reduction": "(chain)",
         "is_reduction": "(chain, steps)", "are_alike": "(one, other)",
     },
+    "numbering": {
+        "count_normal": "(entries, *, most=12)", "number_of": "(chain, *, most=12)",
+        "chain_at": "(number, entries, *, most=12)",
+    },
+    "reasons": {"explanation": "(chain, requests)"},
 }
 METHODS = {
     ("chains", "Chain"): {
@@ -22,6 +27,14 @@ METHODS = {
         "with_entry": "(self, level)", "read": "(cls, text)", "plain": "(*capacities)",
         "segments": None, "entries": None, "MAX_SEGMENTS": None, "MAX_LEVELS": None, "MAX_CAPACITY": None,
     },
+    ("runs", "Run"): {
+        "__init__": "(self, chain)", "__len__": None, "__eq__": None, "__repr__": None,
+        "resume": "(cls, chain, contents)", "chain": None, "contents": None, "fetches": None, "hits": None,
+        "request": "(self, entry, item)", "request_all": "(self, requests)", "preview": "(self, requests)",
+        "holders": "(self, item)", "log": "(self)", "remove_level": "(self, level)", "undo": "(self)",
+        "redo": "(self)", "history": "(self)", "clone": "(self)",
+    },
+    ("runs", "TracedRun"): {"resume": "(cls, chain, contents)", "fetched": "(self)", "clone": "(self)"},
 }
 
 
