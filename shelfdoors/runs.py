@@ -1,7 +1,8 @@
 """Runs: chains with the items that their levels hold, and with a log of the requests."""
 
-from shelfdoors.checks import ANONYMOUS, is_between, is_item, is_item_or_anonymous
-from shelfdoors.errors import InvalidContents, InvalidEntry, InvalidItem, NotRemovable, NothingLeft
+from shelfdoors.checks import is_item
+from shelfdoors.contents import after_request, check_request, checked_contents, empty_contents
+from shelfdoors.errors import InvalidItem, NotRemovable, NothingLeft
 from shelfdoors.normal import is_covered
 
 
@@ -10,8 +11,7 @@ class Run:
 
     def __init__(self, chain):
         self._chain = chain
-        # Contents are tuples throughout, so that a step can keep them without a copy.
-        self._contents = _empty_contents(chain)
+        self._contents = empty_contents(chain)
         self._log = []
         self._done = []
         self._undone = []
@@ -20,7 +20,7 @@ class Run:
     def resume(cls, chain, contents):
         """Return a run with these contents, without requests."""
         run = cls(chain)
-        run._contents = _checked_contents(chain, contents)
+        run._contents = checked_contents(chain, contents)
         return run
 
     @property
@@ -129,8 +129,8 @@ class Run:
         contents = self._contents
         rows = []
         for entry, item in requests:
-            _check_request(self._chain, entry, item)
-            contents, result = _after_request(self._chain, contents, entry, item)
+            check_request(self._chain, entry, item)
+            contents, result = after_request(self._chain, contents, entry, item)
             rows.append((entry, item, result))
         return contents, tuple(rows)
 
@@ -150,7 +150,7 @@ class TracedRun(Run):
     def resume(cls, chain, contents):
         """Return a traced run with these contents, without requests."""
         run = cls(chain)
-        run._contents = _checked_contents(chain, contents)
+        run._contents = checked_contents(chain, contents)
         return run
 
     def fetched(self):
@@ -162,65 +162,3 @@ class TracedRun(Run):
         run = TracedRun(self._chain)
         run._take_state(self)
         return run
-
-
-def _check_request(chain, entry, item):
-    """Raise the error of a request that is invalid."""
-    if not is_between(entry, 0, chain.entries - 1):
-        raise InvalidEntry(entry)
-    if not is_item_or_anonymous(item):
-        raise InvalidItem(item)
-
-
-def _after_request(chain, contents, entry, item):
-    """Return the contents behind a valid request, and its result."""
-    rows = [list(row) for row in contents]
-    for segment, at in chain.behind(entry):
-        held = rows[segment][at]
-        # What an anonymous item leaves in a level is no hit for the next one.
-        if item != ANONYMOUS and item in held:
-            return tuple([tuple(row) for row in rows]), (segment, at)
-        rows[segment][at] = _inserted(held, item, chain[segment][at])
-    return tuple([tuple(row) for row in rows]), None
-
-
-def _inserted(held, item, capacity):
-    """Return the items of a level behind the insertion of an item."""
-    if len(held) < capacity:
-        return held + (item,)
-    return held[1:] + (item,)
-
-
-def _empty_contents(chain):
-    """Return the contents of a chain whose levels hold no items."""
-    return tuple([tuple([() for _ in row]) for row in chain.segments])
-
-
-def _checked_contents(chain, contents):
-    """Return a copy of contents as tuples; raise InvalidContents if they do not fit a chain."""
-    _check_length(contents, chain.entries)
-    return tuple([_checked_row(row, held) for row, held in zip(chain.segments, contents)])
-
-
-def _checked_row(row, held):
-    """Return a copy of the contents of a segment; raise InvalidContents if they do not fit."""
-    _check_length(held, len(row))
-    return tuple([_checked_items(capacity, items) for capacity, items in zip(row, held)])
-
-
-def _checked_items(capacity, items):
-    """Return a copy of the items of a level; raise InvalidContents if they do not fit."""
-    if not isinstance(items, (list, tuple)) or len(items) > capacity:
-        raise InvalidContents()
-    for at, item in enumerate(items):
-        if not is_item_or_anonymous(item):
-            raise InvalidContents()
-        if item != ANONYMOUS and item in items[:at]:
-            raise InvalidContents()
-    return tuple(items)
-
-
-def _check_length(value, many):
-    """Raise InvalidContents if a value is not a list of so many."""
-    if not isinstance(value, (list, tuple)) or len(value) != many:
-        raise InvalidContents()

@@ -18,6 +18,13 @@ FUNCTIONS = {
         "chain_at": "(number, entries, *, most=12)",
     },
     "reasons": {"explanation": "(chain, requests)"},
+    "separate": {"separating": "(one, other)", "is_separating": "(one, other, requests)"},
+    "programs": {
+        "check_program": "(chain, program, *, parts=None)", "program_text": "(program)", "parse_program": "(text)",
+    },
+    "carry": {
+        "carry_out": "(chain, program, *, parts=None)", "cyclic_fetches": "(chain, entry, many, rounds)",
+    },
 }
 METHODS = {
     ("chains", "Chain"): {
@@ -35,6 +42,7 @@ METHODS = {
         "redo": "(self)", "history": "(self)", "clone": "(self)",
     },
     ("runs", "TracedRun"): {"resume": "(cls, chain, contents)", "fetched": "(self)", "clone": "(self)"},
+    ("carry", "Outcome"): {"__init__": "(self, made, missed, final)", "__eq__": None, "hits": None},
 }
 
 
