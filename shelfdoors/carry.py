@@ -1,8 +1,8 @@
 """Carrying out programs; rounds that recur are computed."""
 
-from shelfdoors.checks import ANONYMOUS, MAX_ITEM, MAX_REPEATS, is_between
+from shelfdoors.checks import ANONYMOUS, MAX_ITEM, MAX_REPEATS, check_bound, is_between
 from shelfdoors.contents import after_request, empty_contents
-from shelfdoors.errors import InvalidBound, InvalidEntry, TooManyRounds, TooManySteps
+from shelfdoors.errors import InvalidEntry, TooManyRounds, TooManySteps
 from shelfdoors.programs import check_program
 
 MAX_ROUNDS = 8
@@ -102,10 +102,8 @@ def cyclic_fetches(chain, entry, many, rounds):
     """Return how many items are fetched if the items below many are requested in order, so many rounds."""
     if not is_between(entry, 0, chain.entries - 1):
         raise InvalidEntry(entry)
-    if not is_between(many, 0, MAX_ITEM + 1):
-        raise InvalidBound(many)
-    if not is_between(rounds, 0, MAX_REPEATS):
-        raise InvalidBound(rounds)
+    check_bound(many, 0, MAX_ITEM + 1)
+    check_bound(rounds, 0, MAX_REPEATS)
     capacities = [chain[segment][at] for segment, at in chain.behind(entry)]
     # A level that can hold all these items keeps them; any other one evicts each of them before its turn.
     if many <= max(capacities, default=0):

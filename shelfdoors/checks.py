@@ -1,5 +1,7 @@
 """What several files ask of a value."""
 
+from shelfdoors.errors import InvalidBound
+
 # Requested instead of an item, and written in contents for an item that is requested only once.
 ANONYMOUS = -1
 MAX_ITEM = 9999
@@ -14,6 +16,12 @@ def is_between(value, low, high):
     """Tell whether a value is an integer from low to high."""
     # True and False are integers for Python, but not for the package.
     return isinstance(value, int) and not isinstance(value, bool) and low <= value <= high
+
+
+def check_bound(value, low, high):
+    """Raise InvalidBound if a value is not an integer from low to high."""
+    if not is_between(value, low, high):
+        raise InvalidBound(value)
 
 
 def is_item(value):

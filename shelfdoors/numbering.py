@@ -1,8 +1,8 @@
 """The numbers of normal chains, read from the codes of their segments as from digits."""
 
 from shelfdoors.chains import Chain
-from shelfdoors.checks import is_between
-from shelfdoors.errors import InvalidBound, InvalidChain, InvalidNumber
+from shelfdoors.checks import check_bound, is_between
+from shelfdoors.errors import InvalidChain, InvalidNumber
 from shelfdoors.normal import is_normal
 
 
@@ -10,7 +10,7 @@ def count_normal(entries, *, most=12):
     """Return how many normal chains there are with capacities up to most."""
     if not is_between(entries, 1, Chain.MAX_SEGMENTS):
         raise InvalidChain(-1)
-    _check_bound(most)
+    check_bound(most, 1, Chain.MAX_CAPACITY)
     count = 1
     for _ in range(entries):
         count = count * _base(most)
@@ -19,7 +19,7 @@ def count_normal(entries, *, most=12):
 
 def number_of(chain, *, most=12):
     """Return the number of a normal chain."""
-    _check_bound(most)
+    check_bound(most, 1, Chain.MAX_CAPACITY)
     number = 0
     for segment, row in enumerate(chain.segments):
         if not is_normal(Chain(row)) or not all([capacity <= most for capacity in row]):
@@ -40,12 +40,6 @@ def chain_at(number, entries, *, most=12):
         rest, code = divmod(rest, _base(most))
         rows.insert(0, _row_of(code, most))
     return Chain(*rows)
-
-
-def _check_bound(most):
-    """Raise InvalidBound if no level could have this greatest capacity."""
-    if not is_between(most, 1, Chain.MAX_CAPACITY):
-        raise InvalidBound(most)
 
 
 def _base(most):

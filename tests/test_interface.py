@@ -25,6 +25,8 @@ FUNCTIONS = {
     "carry": {
         "carry_out": "(chain, program, *, parts=None)", "cyclic_fetches": "(chain, entry, many, rounds)",
     },
+    "hidden": {"identify": "(hidden, *, most=12)"},
+    "documents": {"rack_text": "(rack)", "read_rack": "(text)"},
 }
 METHODS = {
     ("chains", "Chain"): {
@@ -43,6 +45,22 @@ METHODS = {
     },
     ("runs", "TracedRun"): {"resume": "(cls, chain, contents)", "fetched": "(self)", "clone": "(self)"},
     ("carry", "Outcome"): {"__init__": "(self, made, missed, final)", "__eq__": None, "hits": None},
+    ("hidden", "Hidden"): {
+        "__init__": "(self, chain, *, warm=())", "ask": "(self, entry, item)", "entries": None, "asked": None,
+    },
+    ("rack", "Rack"): {
+        "__init__": "(self, *, limit=6)", "__len__": None, "__eq__": None, "__repr__": None, "limit": None,
+        "set_limit": "(self, limit)", "total": None, "apply": "(self, command)", "apply_all": "(self, *commands)",
+        "undo": "(self)", "redo": "(self)", "history": "(self)", "names": "(self)", "run_of": "(self, name)",
+        "fetches_of": "(self, name)", "clone": "(self)",
+    },
+    ("console", "Console"): {
+        "__init__": "(self, *, rack=None)", "answer": "(self, line)", "rack": "(self)", "said": None,
+    },
+}
+
+PROPERTIES = {
+    "segments", "entries", "chain", "contents", "fetches", "hits", "asked", "limit", "total", "said",
 }
 
 
@@ -57,6 +75,12 @@ class InterfaceTest(unittest.TestCase):
                     self.assertTrue(inspect.isfunction(function))
                     self.assertEqual(function.__module__, module.__name__)
                     self.assertEqual(str(inspect.signature(function)), parameters)
+
+    def test_properties(self):
+        for (file, title), methods in METHODS.items():
+            own = vars(getattr(importlib.import_module(f"shelfdoors.{file}"), title))
+            for name in PROPERTIES & set(methods):
+                self.assertIsInstance(own[name], property)
 
     def test_methods_are_defined_in_their_classes(self):
         for (file, title), methods in METHODS.items():
