@@ -116,8 +116,12 @@ def _busy_statements(statements, parts, known):
 
     The others change nothing, but could take long: a part without requests may be used very often.
     """
-    found = [_busy_statement(statement, parts, known) for statement in statements]
-    return [statement for statement in found if statement is not None]
+    busy = []
+    for statement in statements:
+        found = _busy_statement(statement, parts, known)
+        if found is not None:
+            busy.append(found)
+    return busy
 
 
 def _busy_statement(statement, parts, known):
